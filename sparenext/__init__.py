@@ -1,0 +1,1 @@
+"""Sparenext: spare next houses told ahead for when a tie or a house falls."""

@@ -1,0 +1,137 @@
+"""What the tests share: how a refusal is looked at, nets to try, and answers found by plain search."""
+
+import copy
+import random
+import unittest
+
+from sparenext.errors import (NoCount, NoHouse, NoLine, NoName, NoNeed, NoText, NoTie, NoTree, NotLike, NoWeight,
+                              NoWord, SpareError)
+from sparenext.nets import Net
+
+LISTED = (NoCount, NoWord, NoNeed, NoTree, NoLine, NoHouse, NoTie, NoWeight, NotLike, NoText, NoName)
+
+FORTY = int("9" * 40)
+
+# Pairs of a count and ties.
+TWO = (2, [(0, 1, 3, 5)])
+TWO_BARE = (2, [])
+LINE = (4, [(0, 1, 2, 2), (1, 2, 1, 5), (2, 3, 4, 4)])
+UNLIKE_RING = (4, [(0, 1, 1, 9), (1, 2, 1, 9), (2, 3, 1, 9), (0, 3, 9, 1)])
+SQUARES = (6, [(0, 1, 1, 1), (0, 2, 1, 1), (1, 3, 1, 1), (2, 3, 1, 1), (3, 4, 2, 2), (3, 5, 1, 1), (4, 5, 1, 1)])
+PARTED = (7, [(0, 1, 2, 3), (1, 2, 2, 3), (0, 2, 4, 4), (4, 5, 1, 7)])
+TWELVE_LINE = (12, [(house, house + 1, house + 1, 20 - house) for house in range(11)])
+# Any rising list of houses from 0 to 11 is a least way here.
+TWELVE_WHOLE = (12, [(a, b, b - a, b - a) for a in range(12) for b in range(a + 1, 12)])
+TWELVE_RING = (12, [(house, (house + 1) % 12, 1, 1) for house in range(12)])
+HUGE = (3, [(0, 1, FORTY, 1), (1, 2, FORTY, FORTY), (0, 2, FORTY, FORTY - 1)])
+
+
+def random_nets(seed, many, most):
+    """Tells pairs of a count and ties, the same ones for the same seed; small weights make many ways alike."""
+    chance = random.Random(seed)
+    told = []
+    for _ in range(many):
+        count = chance.randint(2, most)
+        ties = []
+        for a in range(count):
+            for b in range(a + 1, count):
+                if chance.random() < 0.55:
+                    tie = (a, b, chance.randint(1, 3), chance.randint(1, 3))
+                    ties.append(tie if chance.random() < 0.5 else (b, a, tie[3], tie[2]))
+        chance.shuffle(ties)
+        told.append((count, ties))
+    return told
+
+
+SMALL = [TWO, TWO_BARE, LINE, UNLIKE_RING, SQUARES, PARTED, HUGE] + random_nets(7, 60, 6)
+LARGE = [TWELVE_LINE, TWELVE_WHOLE, TWELVE_RING] + random_nets(11, 12, 12)
+
+
+def weights_of(ties):
+    """Tells the weights of a list of ties, either way, without the program."""
+    weights = {}
+    for a, b, there, back in ties:
+        weights[a, b] = there
+        weights[b, a] = back
+    return weights
+
+
+def all_ways(ties, a, t):
+    """Tells all ways from a to t as pairs of a sum and a list, without the program."""
+    weights = weights_of(ties)
+    found = []
+
+    def go_on(houses, total):
+        if houses[-1] == t:
+            found.append((total, houses))
+            return
+        for (here, there), weight in weights.items():
+            if here == houses[-1] and there not in houses:
+                go_on(houses + [there], total + weight)
+
+    go_on([a], 0)
+    return found
+
+
+def least_ways(ties, a, t):
+    """Tells the least sum, or None, and all least ways, rising, without the program."""
+    found = all_ways(ties, a, t)
+    if not found:
+        return None, []
+    least = min(total for total, _ in found)
+    return least, sorted(houses for total, houses in found if total == least)
+
+
+def all_distances(count, ties):
+    """Tells the distance for each pair of houses, None where there is no way, house by house gone through."""
+    sums = {(a, b): 0 if a == b else None for a in range(count) for b in range(count)}
+    sums.update(weights_of(ties))
+    for through in range(count):
+        for a in range(count):
+            for b in range(count):
+                first, second = sums[a, through], sums[through, b]
+                if first is not None and second is not None:
+                    if sums[a, b] is None or first + second < sums[a, b]:
+                        sums[a, b] = first + second
+    return sums
+
+
+class Case(unittest.TestCase):
+    """A test case that looks closely at refusals and at what is handed in."""
+
+    def net(self, pair):
+        return Net(pair[0], list(pair[1]))
+
+    def refused(self, kind, fields, call, *handed):
+        """Looks that a call is refused with just this class and these fields, and changes nothing."""
+        before = copy.deepcopy([thing for thing in handed if not isinstance(thing, Net)])
+        told = []
+        for caught in (kind, SpareError, ValueError):
+            try:
+                call(*handed)
+            except caught as error:
+                told.append(error)
+            else:
+                self.fail(f"not refused: {call} of {handed}")
+        for error in told:
+            self.assertIs(type(error), kind)
+            for other in LISTED:
+                self.assertEqual(isinstance(error, other), other is kind)
+            for field, worth in fields.items():
+                self.assertEqual(getattr(error, field), worth)
+                self.assertIs(type(getattr(error, field)), type(worth))
+        self.assertEqual([thing for thing in handed if not isinstance(thing, Net)], before)
+
+    def told_anew(self, call, *handed):
+        """Looks that a told list is a new one each time, and that emptying it changes nothing; tells it."""
+        first = call(*handed)
+        kept = list(first)
+        second = call(*handed)
+        self.assertIs(type(first), list)
+        self.assertIsNot(first, second)
+        self.assertEqual(second, kept)
+        first.append("more")
+        self.assertEqual(second, kept)
+        first.clear()
+        self.assertEqual(call(*handed), kept)
+        return kept

@@ -1,0 +1,55 @@
+"""The interface: each listed name stands in its own file and takes its arguments by their places."""
+
+import ast
+import pathlib
+import unittest
+
+PACKAGE = pathlib.Path(__file__).resolve().parent.parent / "sparenext"
+
+FUNCTIONS = {
+    "ways": {"distance": ("net", "a", "t"), "way_count": ("net", "a", "t"), "is_way": ("net", "houses"),
+             "next_houses": ("net", "a", "t"), "next_house": ("net", "a", "t"), "least_way": ("net", "a", "t")},
+}
+
+# What an object is made of, where the interface tells it, and the methods.
+CLASSES = {
+    "errors": {name: (None, {}) for name in ("SpareError", "NoCount", "NoWord", "NoNeed", "NoTree", "NoLine",
+                                             "NoHouse", "NoTie", "NoWeight", "NotLike", "NoText", "NoName")},
+    "nets": {"Net": (("count", "ties"),
+                     {"neighbours": ("a",), "weight": ("a", "b"), "without": ("fall",)})},
+}
+
+
+def defined(file, kind):
+    """Tells what a file of the package defines of this kind, by names."""
+    tree = ast.parse((PACKAGE / f"{file}.py").read_text(encoding="utf-8"))
+    return {node.name: node for node in tree.body if isinstance(node, kind)}
+
+
+def places(function):
+    """Tells the names of the arguments; fails where they can't be handed in by their places alone."""
+    arguments = function.args
+    assert not (arguments.vararg or arguments.kwarg or arguments.kwonlyargs or arguments.defaults), function.name
+    return tuple(argument.arg for argument in arguments.posonlyargs + arguments.args)
+
+
+class InterfaceTest(unittest.TestCase):
+    def test_functions(self):
+        for file, listed in FUNCTIONS.items():
+            found = defined(file, ast.FunctionDef)
+            for name, wanted in listed.items():
+                self.assertEqual(places(found[name]), wanted)
+
+    def test_classes(self):
+        for file, listed in CLASSES.items():
+            found = defined(file, ast.ClassDef)
+            for name, (wanted, methods) in listed.items():
+                own = {node.name: node for node in found[name].body if isinstance(node, ast.FunctionDef)}
+                if wanted is not None:
+                    self.assertEqual(places(own["__init__"])[1:], wanted)
+                for method, named in methods.items():
+                    self.assertEqual(places(own[method])[1:], named)
+
+
+if __name__ == "__main__":
+    unittest.main()
