@@ -32,6 +32,13 @@ def refuse_fall(net, fall):
         refuse_houses(net.count, [fall[1]])
 
 
+def falls_with(fall, a, b):
+    """Tell whether the tie of two houses falls with a fall."""
+    if fall[0] == "tie":
+        return _pair(a, b) == _pair(fall[1], fall[2])
+    return fall[1] in (a, b)
+
+
 def _pair(a, b):
     """Tell two houses with the lesser one first."""
     return (min(a, b), max(a, b))
@@ -81,14 +88,6 @@ def _weights_of(ties):
     return weights
 
 
-def _is_fallen(tie, fall):
-    """Tell whether a tie falls with a fall."""
-    pair = (tie[0], tie[1])
-    if fall[0] == "tie":
-        return pair == _pair(fall[1], fall[2])
-    return fall[1] in pair
-
-
 class Net:
     """Houses from 0 to count less one, and ties (a, b, there, back), a below b, rising."""
 
@@ -112,4 +111,4 @@ class Net:
     def without(self, fall):
         """Tell the net without a fallen tie ("tie", a, b) or without the ties of a fallen ("house", e)."""
         refuse_fall(self, fall)
-        return Net(self.count, [tie for tie in self.ties if not _is_fallen(tie, fall)])
+        return Net(self.count, [tie for tie in self.ties if not falls_with(fall, tie[0], tie[1])])

@@ -33,6 +33,17 @@ def steps_on(net, sums, a):
     return [n for n in net.neighbours(a) if sums[n] is not None and net.weight(a, n) + sums[n] == sums[a]]
 
 
+def step_on(net, sums, a):
+    """Tell the next house of a, or None, where sums are the distances to the target."""
+    found = steps_on(net, sums, a)
+    return found[0] if found else None
+
+
+def sums_to_all(net):
+    """Tell the list with, for each house, the list of all distances to it."""
+    return [distances_to(net, t) for t in range(net.count)]
+
+
 def _nearest_first(sums):
     """Tell the houses with a way to the target, those with the least distance first."""
     found = sorted([(sums[house], house) for house in range(len(sums)) if sums[house] is not None])
@@ -75,8 +86,8 @@ def next_houses(net, a, t):
 
 def next_house(net, a, t):
     """Tell the least of the next houses of a to t, or None where there is none."""
-    found = next_houses(net, a, t)
-    return found[0] if found else None
+    refuse_houses(net.count, [a, t])
+    return step_on(net, distances_to(net, t), a)
 
 
 def least_way(net, a, t):
@@ -87,5 +98,5 @@ def least_way(net, a, t):
         return None
     houses = [a]
     while houses[-1] != t:
-        houses.append(steps_on(net, sums, houses[-1])[0])
+        houses.append(step_on(net, sums, houses[-1]))
     return houses

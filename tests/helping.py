@@ -96,6 +96,26 @@ def all_distances(count, ties):
     return sums
 
 
+def lists_in(told):
+    """Tells all lists in an answer: itself, and those in its lists and tuples."""
+    found = [told] if isinstance(told, list) else []
+    if isinstance(told, (list, tuple)):
+        for thing in told:
+            found += lists_in(thing)
+    return found
+
+
+def all_falls(count, ties):
+    """Tells all falls of a net, ties from either house; of a large net each tie from one of its houses."""
+    falls = [("house", house) for house in range(count)]
+    for a, b, _, _ in ties:
+        if count <= 7 or (a + b) % 2:
+            falls.append(("tie", a, b))
+        if count <= 7 or not (a + b) % 2:
+            falls.append(("tie", b, a))
+    return falls
+
+
 class Case(unittest.TestCase):
     """A test case that looks closely at refusals and at what is handed in."""
 
@@ -123,15 +143,21 @@ class Case(unittest.TestCase):
         self.assertEqual([thing for thing in handed if not isinstance(thing, Net)], before)
 
     def told_anew(self, call, *handed):
-        """Looks that a told list is a new one each time, and that emptying it changes nothing; tells it."""
+        """Looks that all told lists are new ones each time, and that changing them changes nothing; tells the answer."""
+        before = copy.deepcopy([thing for thing in handed if not isinstance(thing, Net)])
         first = call(*handed)
-        kept = list(first)
+        kept = copy.deepcopy(first)
         second = call(*handed)
-        self.assertIs(type(first), list)
-        self.assertIsNot(first, second)
+        known = [id(one) for thing in (second,) + handed for one in lists_in(thing)]
         self.assertEqual(second, kept)
-        first.append("more")
+        for one in lists_in(first):
+            self.assertNotIn(id(one), known)
+        for one in lists_in(first):
+            one.append("more")
         self.assertEqual(second, kept)
-        first.clear()
+        for one in lists_in(first):
+            one.clear()
+        self.assertEqual(second, kept)
         self.assertEqual(call(*handed), kept)
+        self.assertEqual([thing for thing in handed if not isinstance(thing, Net)], before)
         return kept

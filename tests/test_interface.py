@@ -9,6 +9,11 @@ PACKAGE = pathlib.Path(__file__).resolve().parent.parent / "sparenext"
 FUNCTIONS = {
     "ways": {"distance": ("net", "a", "t"), "way_count": ("net", "a", "t"), "is_way": ("net", "houses"),
              "next_houses": ("net", "a", "t"), "next_house": ("net", "a", "t"), "least_way": ("net", "a", "t")},
+    "sending": {"next_table": ("net", "t"), "sent_on": ("table", "start", "target"), "ring_or_numbers": ("table",)},
+    "spares": {"spares_of": ("net", "a", "t", "word"), "spare_of": ("net", "a", "t", "word"),
+               "spares_told": ("net", "t", "word")},
+    "falls": {"fallen_table": ("net", "t", "fall"), "walked_all": ("net", "t", "fall"),
+              "lost_houses": ("net", "t", "fall")},
 }
 
 # What an object is made of, where the interface tells it, and the methods.
