@@ -35,11 +35,11 @@ def refuse_fall(net, fall):
 def falls_with(fall, a, b):
     """Tell whether the tie of two houses falls with a fall."""
     if fall[0] == "tie":
-        return _pair(a, b) == _pair(fall[1], fall[2])
+        return pair_of(a, b) == pair_of(fall[1], fall[2])
     return fall[1] in (a, b)
 
 
-def _pair(a, b):
+def pair_of(a, b):
     """Tell two houses with the lesser one first."""
     return (min(a, b), max(a, b))
 
@@ -52,7 +52,7 @@ def _refuse_count(count):
 def _refuse_pairs(ties):
     seen = set()
     for place, tie in enumerate(ties):
-        pair = _pair(tie[0], tie[1])
+        pair = pair_of(tie[0], tie[1])
         if tie[0] == tie[1] or pair in seen:
             raise NoTie(place)
         seen.add(pair)

@@ -44,6 +44,14 @@ def sums_to_all(net):
     return [distances_to(net, t) for t in range(net.count)]
 
 
+def goes_over(net, sums, a, e, n, t):
+    """Tell whether some least way from n to t, both joined with a and e, goes over the tie from a to e.
+
+    Sums are the distances to all houses.
+    """
+    return sums[a][n] + net.weight(a, e) + sums[t][e] == sums[t][n]
+
+
 def _nearest_first(sums):
     """Tell the houses with a way to the target, those with the least distance first."""
     found = sorted([(sums[house], house) for house in range(len(sums)) if sums[house] is not None])

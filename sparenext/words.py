@@ -3,6 +3,7 @@
 from sparenext.errors import NoWord
 
 FALLEN_WORDS = ("tie", "house")
+APART_WORDS = ("ties", "houses")
 
 
 def refuse_word(word, known):

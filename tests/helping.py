@@ -96,6 +96,21 @@ def all_distances(count, ties):
     return sums
 
 
+def random_table(chance, count):
+    """Tells a table of this many houses by a source of chance of the test's own."""
+    return [chance.choice([None] + list(range(count))) for _ in range(count)]
+
+
+def goes_in_a_ring(table):
+    """Tells whether some house goes on and on, by the steps alone."""
+    for house in range(len(table)):
+        for _ in range(len(table)):
+            house = None if house is None else table[house]
+        if house is not None:
+            return True
+    return False
+
+
 def lists_in(told):
     """Tells all lists in an answer: itself, and those in its lists and tuples."""
     found = [told] if isinstance(told, list) else []

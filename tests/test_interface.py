@@ -14,6 +14,13 @@ FUNCTIONS = {
                "spares_told": ("net", "t", "word")},
     "falls": {"fallen_table": ("net", "t", "fall"), "walked_all": ("net", "t", "fall"),
               "lost_houses": ("net", "t", "fall")},
+    "fewest": {"tie_targets": ("net", "a", "e"), "tie_servers": ("net", "a", "e"), "fewest_spares": ("net", "a", "e")},
+    "handing": {"near_houses": ("net", "a", "e"), "far_houses": ("net", "a", "e"), "handed_over": ("net", "a", "e"),
+                "handed_way": ("net", "a", "e")},
+    "trees": {"trees_apart": ("net", "t", "word", "one", "other"), "two_trees": ("net", "t", "word")},
+    "changing": {"change_or_ring": ("old", "new"), "is_change_ring": ("old", "new", "houses"),
+                 "are_change_numbers": ("old", "new", "numbers"), "change_order": ("one", "other", "t"),
+                 "order_holds": ("old", "new", "order")},
 }
 
 # What an object is made of, where the interface tells it, and the methods.

@@ -5,39 +5,19 @@ import random
 import unittest
 
 from helping import (FORTY, LARGE, LINE, PARTED, SMALL, SQUARES, TWELVE_LINE, TWELVE_RING, TWELVE_WHOLE, TWO, TWO_BARE,
-                     UNLIKE_RING, Case, least_ways)
+                     UNLIKE_RING, Case, goes_in_a_ring, least_ways, random_table)
 from sparenext.errors import NoHouse
 from sparenext.nets import Net
 from sparenext.sending import next_table, ring_or_numbers, sent_on
 from sparenext.ways import next_house
 
 NUMBERS = (-1, -2, -12, FORTY, -FORTY)
+CHANCE = random.Random(3)
 CALM = [[None], [None, 0], [1, 2, None], [None] * 12, [None] + list(range(11)), list(range(1, 12)) + [None],
         [3, 3, 3, None], [11] * 11 + [None]]
 RINGS = [[0], [0, 0], [1, 0], [1, 2, 0], [None, 1, None], [0] * 12, list(range(12)), list(range(1, 12)) + [0],
          [11] + list(range(11)), [1, 2, 3, 4, 2, None], [1] * 12, [5, 4, 3, 2, 1, 0]]
-
-
-def some_tables(seed, many, most):
-    """Tells tables, the same ones for the same seed."""
-    chance = random.Random(seed)
-    told = []
-    for _ in range(many):
-        count = chance.randint(1, most)
-        told.append([chance.choice([None] + list(range(count))) for _ in range(count)])
-    return told
-
-
-TABLES = CALM + RINGS + some_tables(3, 150, 12)
-
-
-def goes_in_a_ring(table, house):
-    """Tells whether whoever goes on from a house long enough never stops."""
-    for _ in range(len(table) + 1):
-        if house is None:
-            return False
-        house = table[house]
-    return house is not None
+TABLES = CALM + RINGS + [random_table(CHANCE, CHANCE.randint(1, 12)) for _ in range(150)]
 
 
 class NextTableTest(Case):
@@ -176,7 +156,7 @@ class RingOrNumbersTest(Case):
         told = self.told_anew(ring_or_numbers, table)
         self.assertIs(type(told), tuple)
         calm, numbers = told
-        self.assertIs(calm, not any(goes_in_a_ring(table, house) for house in range(len(table))))
+        self.assertIs(calm, not goes_in_a_ring(table))
         if calm:
             self.assertEqual(len(numbers), len(table))
             for house, onward in enumerate(table):
