@@ -1,7 +1,7 @@
 """Tables that change house by house, and the rings that can arise while they do."""
 
 from sparenext.errors import NoCount
-from sparenext.nets import is_house
+from sparenext.nets import is_house, refuse_unlike_counts
 from sparenext.sending import falling_numbers, next_table, refuse_table, ring_among, ring_or_numbers
 from sparenext.ways import distances_to
 
@@ -62,8 +62,7 @@ def are_change_numbers(old, new, numbers):
 
 def change_order(one, other, t):
     """Tell the houses whose next house to t is unlike in both nets, in an order in which no ring ever arises."""
-    if one.count != other.count:
-        raise NoCount("nets of unlike counts")
+    refuse_unlike_counts(one, other)
     return houses_in_order(next_table(one, t), next_table(other, t), distances_to(other, t))
 
 

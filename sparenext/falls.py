@@ -29,11 +29,15 @@ def _sent_then(net, sums, a, t, fall):
     return spare_or_none(net, sums, a, t, fall[0])
 
 
+def table_then(net, sums, t, fall):
+    """Tell the table by which all send to t with a fall that may be asked about, sums as above."""
+    return [_sent_then(net, sums, a, t, fall) for a in range(net.count)]
+
+
 def fallen_table(net, t, fall):
     """Tell the table by which all send to t with the fall."""
     refuse_fallen_target(net, t, fall)
-    sums = sums_to_all(net)
-    return [_sent_then(net, sums, a, t, fall) for a in range(net.count)]
+    return table_then(net, sums_to_all(net), t, fall)
 
 
 def walked_all(net, t, fall):

@@ -4,6 +4,7 @@ from sparenext.errors import NoCount, NoHouse, NoTie, NoWeight
 
 LEAST_COUNT = 2
 GREATEST_COUNT = 12
+LEAST_WEIGHT = 1
 
 
 def is_house(count, number):
@@ -24,6 +25,18 @@ def refuse_untied(net, a, b):
         raise NoTie(None)
 
 
+def refuse_weight(weight):
+    """Refuse a weight, handed in by itself, that is none."""
+    if weight < LEAST_WEIGHT:
+        raise NoWeight(None)
+
+
+def refuse_unlike_counts(one, other):
+    """Refuse two nets that have not as many houses."""
+    if one.count != other.count:
+        raise NoCount("nets of unlike counts")
+
+
 def refuse_fall(net, fall):
     """Refuse a fall of what are no houses, then one of two houses without a tie."""
     if fall[0] == "tie":
@@ -37,6 +50,13 @@ def falls_with(fall, a, b):
     if fall[0] == "tie":
         return pair_of(a, b) == pair_of(fall[1], fall[2])
     return fall[1] in (a, b)
+
+
+def falls_of(net, word):
+    """Tell all falls of a tie, or of a house, of a net, each tie with its lesser house first, rising."""
+    if word == "tie":
+        return [("tie", tie[0], tie[1]) for tie in net.ties]
+    return [("house", house) for house in range(net.count)]
 
 
 def pair_of(a, b):
@@ -60,7 +80,7 @@ def _refuse_pairs(ties):
 
 def _refuse_weights(ties):
     for place, tie in enumerate(ties):
-        if tie[2] < 1 or tie[3] < 1:
+        if tie[2] < LEAST_WEIGHT or tie[3] < LEAST_WEIGHT:
             raise NoWeight(place)
 
 
@@ -112,3 +132,9 @@ class Net:
         """Tell the net without a fallen tie ("tie", a, b) or without the ties of a fallen ("house", e)."""
         refuse_fall(self, fall)
         return Net(self.count, [tie for tie in self.ties if not falls_with(fall, tie[0], tie[1])])
+
+
+def weighed(net, a, b, weight):
+    """Tell the net with another weight from a to b, two houses with a tie."""
+    others = [tie for tie in net.ties if pair_of(a, b) != pair_of(tie[0], tie[1])]
+    return Net(net.count, others + [(a, b, weight, net.weight(b, a))])

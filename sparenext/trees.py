@@ -1,6 +1,6 @@
 """Two trees to a house that no fall bars both of."""
 
-from sparenext.nets import is_house, pair_of, refuse_houses
+from sparenext.nets import falls_of, is_house, pair_of, refuse_houses
 from sparenext.sending import ring_or_numbers, sent_on
 from sparenext.ways import distances_to, least_way
 from sparenext.words import APART_WORDS, refuse_word
@@ -48,10 +48,10 @@ def _unreached(net, t):
 
 def _falls_that_may_bar(net, t, word):
     """Tell the falls that can bar two trees, in the order in which they are to be told."""
-    ties = [("tie", tie[0], tie[1]) for tie in net.ties]
+    ties = falls_of(net, "tie")
     if word == "ties":
         return ties
-    return [("house", house) for house in range(net.count) if house != t] + ties
+    return [fall for fall in falls_of(net, "house") if fall != ("house", t)] + ties
 
 
 def _barred_by(net, t, fall):

@@ -1,6 +1,7 @@
 """What the tests share: how a refusal is looked at, nets to try, and answers found by plain search."""
 
 import copy
+import functools
 import random
 import unittest
 
@@ -83,7 +84,13 @@ def least_ways(ties, a, t):
 
 
 def all_distances(count, ties):
-    """Tells the distance for each pair of houses, None where there is no way, house by house gone through."""
+    """Tells the distance for each pair of houses, None where there is no way; the answer is not to be changed."""
+    return distances_by_pairs(count, tuple(ties))
+
+
+@functools.lru_cache(maxsize=None)
+def distances_by_pairs(count, ties):
+    """Tells all distances, house by house gone through, and keeps them, since they are asked for over and over."""
     sums = {(a, b): 0 if a == b else None for a in range(count) for b in range(count)}
     sums.update(weights_of(ties))
     for through in range(count):
@@ -94,6 +101,86 @@ def all_distances(count, ties):
                     if sums[a, b] is None or first + second < sums[a, b]:
                         sums[a, b] = first + second
     return sums
+
+
+def plain_next(count, ties, sums, a, t):
+    """Tells the next house, or None, where sums are what all_distances tells; without the program."""
+    if a == t or sums[a, t] is None:
+        return None
+    weights = weights_of(ties)
+    for n in range(count):
+        if (a, n) in weights and sums[n, t] is not None and weights[a, n] + sums[n, t] == sums[a, t]:
+            return n
+
+
+def plain_table(count, ties, t):
+    """Tells the table of next houses, without the program."""
+    sums = all_distances(count, ties)
+    return [plain_next(count, ties, sums, a, t) for a in range(count)]
+
+
+def plain_need(count, ties, sums, a, t, word):
+    """Tells the next house of which, or of the tie with which, there is need, or None; without the program."""
+    e = plain_next(count, ties, sums, a, t)
+    return None if word == "house" and e == t else e
+
+
+def plain_spare(count, ties, sums, a, t, word):
+    """Tells the spare where there is need and one is left, else None, without the program."""
+    e = plain_need(count, ties, sums, a, t, word)
+    if e is None:
+        return None
+    weights = weights_of(ties)
+    found = []
+    for n in range(count):
+        if (a, n) in weights and n != e and sums[n, t] < sums[n, a] + sums[a, t]:
+            if word == "tie" or sums[n, t] < sums[n, e] + sums[e, t]:
+                found.append((weights[a, n] + sums[n, t], n))
+    return min(found)[1] if found else None
+
+
+def hits(fall, a, e):
+    """Tells whether what a sends to e over its tie meets the fall."""
+    if fall[0] == "house":
+        return e == fall[1]
+    return sorted((a, e)) == sorted(fall[1:])
+
+
+def ties_left(ties, fall):
+    """Tells the ties that a fall leaves."""
+    return [tie for tie in ties if not (fall[1] in tie[:2] if fall[0] == "house" else hits(fall, *tie[:2]))]
+
+
+def plain_fallen_table(count, ties, t, fall):
+    """Tells the table by which all send with a fall, without the program."""
+    sums = all_distances(count, ties)
+    told = []
+    for a in range(count):
+        e = plain_next(count, ties, sums, a, t)
+        if fall == ("house", a):
+            e = None
+        elif e is not None and hits(fall, a, e):
+            e = plain_spare(count, ties, sums, a, t, fall[0])
+        told.append(e)
+    return told
+
+
+def plain_walk(table, start, target):
+    """Tells the houses that a sending goes through, by the steps alone, where there is no ring."""
+    houses = [start]
+    while houses[-1] != target and table[houses[-1]] is not None:
+        houses.append(table[houses[-1]])
+    return houses
+
+
+def ring_between(old, new):
+    """Tells whether a ring can arise while tables change, by taking away again and again who can only stop."""
+    left = set(range(len(old)))
+    while True:
+        kept = {house for house in left if old[house] in left or new[house] in left}
+        if kept == left:
+            return bool(left)
+        left = kept
 
 
 def random_table(chance, count):

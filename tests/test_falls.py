@@ -3,7 +3,7 @@
 import unittest
 
 from helping import (FORTY, LARGE, LINE, PARTED, SMALL, SQUARES, TWELVE_RING, TWELVE_WHOLE, TWO, TWO_BARE, UNLIKE_RING,
-                     Case, all_distances, all_falls)
+                     Case, all_distances, all_falls, hits, ties_left)
 from sparenext.errors import NoHouse, NoNeed, NoTie
 from sparenext.falls import fallen_table, lost_houses, walked_all
 from sparenext.nets import Net
@@ -25,17 +25,6 @@ def asked(pairs):
             for t in range(count):
                 if fall != ("house", t):
                     yield net, ties, t, fall
-
-
-def hits(fall, a, e):
-    """Tells whether what a sends to e over its tie meets the fall."""
-    if fall[0] == "house":
-        return e == fall[1]
-    return sorted((a, e)) == sorted(fall[1:])
-
-
-def ties_left(ties, fall):
-    return [tie for tie in ties if not (fall[1] in tie[:2] if fall[0] == "house" else hits(fall, *tie[:2]))]
 
 
 class FallenTableTest(Case):

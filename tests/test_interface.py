@@ -21,6 +21,10 @@ FUNCTIONS = {
     "changing": {"change_or_ring": ("old", "new"), "is_change_ring": ("old", "new", "houses"),
                  "are_change_numbers": ("old", "new", "numbers"), "change_order": ("one", "other", "t"),
                  "order_holds": ("old", "new", "order")},
+    "stepping": {"weight_steps": ("net", "a", "b", "weight", "targets"), "weight_stretch": ("net", "a", "b"),
+                 "reached_pairs": ("one", "other")},
+    "learning": {"learning_order": ("net", "t", "fall"), "learning_or_ring": ("net", "t", "fall")},
+    "gaining": {"bare_pairs": ("net", "word"), "best_tie": ("net", "weight", "word")},
 }
 
 # What an object is made of, where the interface tells it, and the methods.
