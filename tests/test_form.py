@@ -1,6 +1,7 @@
 """The form of the package's files, as far as a glance at each file can tell it."""
 
 import ast
+import builtins
 import pathlib
 import re
 import unittest
@@ -15,6 +16,10 @@ MOST_LINE_SIGNS = 120
 BARRED = (ast.AsyncFunctionDef, ast.Await, ast.Global, ast.Import)
 
 LIBRARY = ("heapq", "math", "itertools", "collections")
+
+# Of Python's own words all that the package may use; print, open and their kin are not among them.
+OWN_WORDS = set("""len range enumerate zip min max sum abs sorted reversed int str bool list tuple dict set isinstance
+any all ValueError super""".split())
 
 
 def trees():
@@ -61,6 +66,15 @@ class FormTest(unittest.TestCase):
                     self.assertNotIsInstance(node.value, (float, complex), path)
                 if isinstance(node, ast.BinOp):
                     self.assertNotIsInstance(node.op, (ast.Div, ast.MatMult), path)
+
+    def test_of_pythons_own_words_only_plain_ones(self):
+        for path, tree in trees():
+            for node in ast.walk(tree):
+                if isinstance(node, ast.Name) and hasattr(builtins, node.id):
+                    self.assertIn(node.id, OWN_WORDS, (path, node.lineno))
+                if isinstance(node, (ast.arg, ast.FunctionDef, ast.ClassDef)):
+                    name = node.arg if isinstance(node, ast.arg) else node.name
+                    self.assertTrue(name == "__init__" or not hasattr(builtins, name), (path, name))
 
     def test_module_level_holds_definitions_only(self):
         plain = (ast.FunctionDef, ast.ClassDef, ast.ImportFrom, ast.Assign)

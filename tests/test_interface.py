@@ -25,6 +25,9 @@ FUNCTIONS = {
                  "reached_pairs": ("one", "other")},
     "learning": {"learning_order": ("net", "t", "fall"), "learning_or_ring": ("net", "t", "fall")},
     "gaining": {"bare_pairs": ("net", "word"), "best_tie": ("net", "weight", "word")},
+    "double": {"doubled": ("net", "t", "one", "other", "start", "falls")},
+    "loads": {"loads": ("net", "fall"), "heaviest": ("net", "word")},
+    "texts": {"net_text": ("net",), "table_text": ("table",), "read_net": ("text",)},
 }
 
 # What an object is made of, where the interface tells it, and the methods.
@@ -33,6 +36,7 @@ CLASSES = {
                                              "NoHouse", "NoTie", "NoWeight", "NotLike", "NoText", "NoName")},
     "nets": {"Net": (("count", "ties"),
                      {"neighbours": ("a",), "weight": ("a", "b"), "without": ("fall",)})},
+    "desk": {"Desk": ((), {"tell": ("line",)})},
 }
 
 

@@ -143,7 +143,8 @@ class LearningOrRingTest(Case):
             self.assertEqual(word == "ring", ring_between(old, new))
             if word == "ring":
                 self.assertIs(is_change_ring(old, new, row), True)
-                self.assertTrue(all(onward in (old[house], new[house]) for house, onward in zip(row, row[1:] + row[:1])))
+                steps = zip(row, row[1:] + row[:1])
+                self.assertTrue(all(onward in (old[house], new[house]) for house, onward in steps))
             else:
                 self.assertEqual(word, "falls")
                 self.assertIs(are_change_numbers(old, new, row), True)

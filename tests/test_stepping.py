@@ -197,7 +197,7 @@ class WeightStepsTest(Case):
         for pair in (ROUND, TWELVE_RING):
             told = weight_steps(self.net(pair), 0, 1, 60, [3, 2])
             for near, far in zip(told, told[1:]):
-                one, other = Net(pair[0], with_weight(pair[1], 0, 1, near)), Net(pair[0], with_weight(pair[1], 0, 1, far))
+                one, other = [Net(pair[0], with_weight(pair[1], 0, 1, step)) for step in (near, far)]
                 for t in (2, 3):
                     self.assertEqual(change_or_ring(next_table(one, t), next_table(other, t))[0], "falls")
 
@@ -334,7 +334,8 @@ class ReachedPairsTest(Case):
         old, new = all_distances(count, ties), all_distances(count, other[1])
         for t in range(count):
             for a in range(count):
-                if (plain_next(count, ties, old, a, t), old[a, t]) != (plain_next(count, other[1], new, a, t), new[a, t]):
+                before = plain_next(count, ties, old, a, t), old[a, t]
+                if before != (plain_next(count, other[1], new, a, t), new[a, t]):
                     wanted.append((t, a))
         told = reached_pairs(self.net(one), self.net(other))
         self.assertEqual(told, wanted)
@@ -421,7 +422,8 @@ class RefusedTest(Case):
             self.assertEqual(weight_steps(self.net(TWO), 0, 1, weight, [0, 1])[-1], weight)
 
     def test_unlike_counts(self):
-        for one, other in ((TWO, LINE), (LINE, TWO), (PARTED, SQUARES), (TWELVE_RING, TWO_BARE), (TWO_BARE, TWELVE_LINE)):
+        for one, other in ((TWO, LINE), (LINE, TWO), (PARTED, SQUARES), (TWELVE_RING, TWO_BARE),
+                           (TWO_BARE, TWELVE_LINE)):
             self.refused(NoCount, {}, reached_pairs, self.net(one), self.net(other))
 
 
